@@ -1,0 +1,1 @@
+"""Sumlaw: statements about whole numbers, told true or false."""

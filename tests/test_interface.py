@@ -1,0 +1,35 @@
+import importlib
+import inspect
+import unittest
+
+from sumlaw.trees import Branch, tree_of
+
+FUNCTIONS = {
+    "numbers": {"common": ["a", "b"], "least_common": ["a", "b"]},
+    "sums": {"sum_of": ["c", "pairs"], "plus": ["one", "other"], "times": ["k", "one"], "share": ["one", "name"],
+             "without": ["one", "name"], "value": ["one", "values"]},
+    "trees": {"tree_of": ["told"]},
+}
+METHODS = {"told": [], "wording": [], "loose": [], "worth": ["values"], "filled": ["values"]}
+X = ("least", (0, (("x", 1),)))
+KINDS = [X, ("rest", 2, X[1]), ("not", X), ("and", (X,)), ("or", (X,)), ("some", "x", X), ("all", "x", X)]
+
+
+class Interface(unittest.TestCase):
+    def test_functions(self):
+        for module, functions in FUNCTIONS.items():
+            for name, arguments in functions.items():
+                there = getattr(importlib.import_module("sumlaw." + module), name)
+                self.assertEqual(list(inspect.signature(there).parameters), arguments, name)
+
+    def test_methods(self):
+        self.assertTrue(inspect.isclass(Branch))
+        for told in KINDS:
+            tree = tree_of(told)
+            self.assertIsInstance(tree, Branch)
+            for name, arguments in METHODS.items():
+                self.assertEqual(list(inspect.signature(getattr(tree, name)).parameters), arguments, (told, name))
+
+
+if __name__ == "__main__":
+    unittest.main()
