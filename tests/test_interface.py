@@ -2,6 +2,7 @@ import importlib
 import inspect
 import unittest
 
+from sumlaw.measure import fits
 from sumlaw.trees import Branch, tree_of
 
 FUNCTIONS = {
@@ -9,6 +10,10 @@ FUNCTIONS = {
     "sums": {"sum_of": ["c", "pairs"], "plus": ["one", "other"], "times": ["k", "one"], "share": ["one", "name"],
              "without": ["one", "name"], "value": ["one", "values"]},
     "trees": {"tree_of": ["told"]},
+    "reading": {"pieces": ["text"], "read": ["text"]},
+    "inward": {"inward": ["told"]},
+    "measure": {"atoms": ["told"], "depth": ["told"], "load": ["told"], "fits": ["told", "more"]},
+    "shortened": {"shortened": ["told"]},
 }
 METHODS = {"told": [], "wording": [], "loose": [], "worth": ["values"], "filled": ["values"]}
 X = ("least", (0, (("x", 1),)))
@@ -21,6 +26,9 @@ class Interface(unittest.TestCase):
             for name, arguments in functions.items():
                 there = getattr(importlib.import_module("sumlaw." + module), name)
                 self.assertEqual(list(inspect.signature(there).parameters), arguments, name)
+
+    def test_defaults(self):
+        self.assertEqual(inspect.signature(fits).parameters["more"].default, 0)
 
     def test_methods(self):
         self.assertTrue(inspect.isclass(Branch))
