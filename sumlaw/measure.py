@@ -1,5 +1,6 @@
 """Statements measured: atoms, depth and load, and whether they fit."""
 
+from sumlaw.errors import TooGreat
 from sumlaw.numbers import least_common
 
 MOST_ATOMS = 40
@@ -102,3 +103,9 @@ def fits(told, more=0):
         if not binder_fits(outer, more):
             return False
     return True
+
+
+def check_fits(told, more):
+    """Refuses a statement that does not fit, with more."""
+    if not fits(told, more):
+        raise TooGreat("too many atoms, too many somes and alls within one another, or too great a load")

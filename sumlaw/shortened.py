@@ -8,6 +8,11 @@ YES = ("and", ())
 NO = ("or", ())
 
 
+def is_never(told):
+    """Whether a statement is the or of none."""
+    return told == NO
+
+
 def common_of(first, pairs):
     """The greatest number that divides the first number and the numbers of all pairs."""
     total = first

@@ -18,6 +18,13 @@ def with_name(bound, name):
     return inner
 
 
+def check_values(names, values):
+    """Refuses values that lack one of these names."""
+    for name in names:
+        if name not in values:
+            raise NoValue(f"{name} has no value")
+
+
 class Branch:
     """Any statement."""
 
@@ -35,9 +42,7 @@ class Branch:
     def worth(self, values):
         """True or False, of a plain statement."""
         # Looked at ahead of all parts: one that settles the whole must not hide a name without a value.
-        for name in self.loose():
-            if name not in values:
-                raise NoValue(f"{name} has no value")
+        check_values(self.loose(), values)
         return self.holds(values)
 
     def filled(self, values):

@@ -1,5 +1,8 @@
 """Statements for the tests: made by hand or by chance, and reckoned another way than the package does."""
 
+import itertools
+import math
+
 from sumlaw.sums import sum_of
 
 GREAT = 10 ** 199 + 7
@@ -110,3 +113,83 @@ def kinds(thing):
     if type(thing) is not tuple:
         return {type(thing)}
     return {tuple}.union(*[kinds(part) for part in thing])
+
+
+def some_values(chance, count):
+    small = [{name: chance.randrange(-7, 8) for name in NAMES} for turn in range(count)]
+    return small + [{name: chance.choice([-GREAT, -1, 0, 1, GREAT]) for name in NAMES}]
+
+
+def least_faults(told):
+    c, pairs = told[1]
+    if not pairs or math.gcd(*[k for name, k in pairs]) != 1:
+        return ["e"]
+    return []
+
+
+def rest_faults(told):
+    m, (c, pairs) = told[1:]
+    if m < 2 or not pairs or math.gcd(m, *[k for name, k in pairs]) != 1:
+        return ["f"]
+    return [] if all(0 <= number < m for number in [c] + [k for name, k in pairs]) else ["f"]
+
+
+def faults(told, whole=True):
+    """The letters of all that keeps a statement from being short."""
+    if told[0] == "least":
+        return least_faults(told)
+    if told[0] == "rest":
+        return rest_faults(told)
+    if told[0] == "not":
+        return faults(told[1], False) if told[1][0] == "rest" else ["a"]
+    if whole and not told[1]:
+        return []
+    found = [] if len(told[1]) >= 2 else ["b"]
+    for part in told[1]:
+        found += faults(part, False) + (["c"] if part[0] == told[0] else [])
+    for one, other in itertools.combinations(told[1], 2):
+        if one == other:
+            found.append("d")
+        elif one[0] == other[0] == "least" and one[1][1] == other[1][1]:
+            found.append("g")
+    return found
+
+
+def tried(told, name, values):
+    """Numbers of the name of which one makes a plain statement true, where any does.
+
+    Those are all numbers about nought and about each number where a least turns, as far as one round of all rests.
+    """
+    found = atom_list(told)
+    far = math.lcm(*[atom[1] for atom in found if atom[0] == "rest"]) + 1
+    turns = {0}
+    for atom in found:
+        k = dict(atom[-1][1]).get(name, 0)
+        if atom[0] == "least" and k:
+            turns.add((atom[1][0] + sum(own * values[one] for one, own in atom[1][1] if one != name)) // -k)
+    return sorted({turn + j for turn in turns for j in range(-far, far + 1)})
+
+
+def true_for_some(told, name, values):
+    return any(truth(told, {**values, name: number}) for number in tried(told, name, values))
+
+
+def full_truth(told, values, far):
+    """Whether a statement is true; of a some or an all over another one all numbers up to far are tried."""
+    if told[0] in ("least", "rest"):
+        return truth(told, values)
+    if told[0] == "not":
+        return not full_truth(told[1], values, far)
+    if told[0] in ("and", "or"):
+        truths = [full_truth(part, values, far) for part in told[1]]
+        return all(truths) if told[0] == "and" else any(truths)
+    word, name, part = told
+    numbers = tried(part, name, values) if is_plain(part) else range(-far, far + 1)
+    truths = (full_truth(part, {**values, name: number}, far) for number in numbers)
+    return any(truths) if word == "some" else all(truths)
+
+
+def is_plain(told):
+    if told[0] in ("and", "or"):
+        return all(is_plain(part) for part in told[1])
+    return is_plain(told[1]) if told[0] == "not" else told[0] in ("least", "rest")

@@ -14,6 +14,10 @@ FUNCTIONS = {
     "inward": {"inward": ["told"]},
     "measure": {"atoms": ["told"], "depth": ["told"], "load": ["told"], "fits": ["told", "more"]},
     "shortened": {"shortened": ["told"]},
+    "cases": {"put_in": ["told", "name", "top", "bottom"], "cases_of": ["told", "name"], "taken": ["told", "name"]},
+    "looker": {"looked": ["told", "name", "cases"]},
+    "sought": {"sought": ["told", "name", "values"]},
+    "bare": {"bare": ["told"]},
 }
 METHODS = {"told": [], "wording": [], "loose": [], "worth": ["values"], "filled": ["values"]}
 X = ("least", (0, (("x", 1),)))

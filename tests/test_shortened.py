@@ -3,47 +3,13 @@ import math
 import random
 import unittest
 
-from making import GREAT, NAMES, NO, PLAIN, X, Y, YES, any_statement, atom_list, free, kinds, least, rest, truth
+from making import (GREAT, NAMES, NO, PLAIN, X, Y, YES, any_statement, atom_list, faults, free, kinds, least, rest,
+                    some_values, truth)
 from sumlaw.shortened import shortened
 from sumlaw.sums import sum_of
 from sumlaw.trees import tree_of
 
 R = rest(3, 1, x=2)
-
-
-def least_faults(told):
-    c, pairs = told[1]
-    if not pairs or math.gcd(*[k for name, k in pairs]) != 1:
-        return ["e"]
-    return []
-
-
-def rest_faults(told):
-    m, (c, pairs) = told[1:]
-    if m < 2 or not pairs or math.gcd(m, *[k for name, k in pairs]) != 1:
-        return ["f"]
-    return [] if all(0 <= number < m for number in [c] + [k for name, k in pairs]) else ["f"]
-
-
-def faults(told, whole=True):
-    """The letters of all that keeps a statement from being short."""
-    if told[0] == "least":
-        return least_faults(told)
-    if told[0] == "rest":
-        return rest_faults(told)
-    if told[0] == "not":
-        return faults(told[1], False) if told[1][0] == "rest" else ["a"]
-    if whole and not told[1]:
-        return []
-    found = [] if len(told[1]) >= 2 else ["b"]
-    for part in told[1]:
-        found += faults(part, False) + (["c"] if part[0] == told[0] else [])
-    for one, other in itertools.combinations(told[1], 2):
-        if one == other:
-            found.append("d")
-        elif one[0] == other[0] == "least" and one[1][1] == other[1][1]:
-            found.append("g")
-    return found
 
 
 def asked_least(c, pairs):
@@ -65,11 +31,6 @@ def asked_rest(m, c, pairs):
     def left(number):
         return next(one for one in range(m // g) if (number // g - one) % (m // g) == 0)
     return ("rest", m // g, sum_of(left(c), [(name, left(k)) for name, k in pairs]))
-
-
-def some_values(chance, count):
-    small = [{name: chance.randrange(-7, 8) for name in NAMES} for turn in range(count)]
-    return small + [{name: chance.choice([-GREAT, -1, 0, 1, GREAT]) for name in NAMES}]
 
 
 class Faults(unittest.TestCase):
