@@ -109,3 +109,10 @@ def check_fits(told, more):
     """Refuses a statement that does not fit, with more."""
     if not fits(told, more):
         raise TooGreat("too many atoms, too many somes and alls within one another, or too great a load")
+
+
+def check_flat(told):
+    """Refuses a some whose answers are not told: one that does not fit, or has another depth than 1 or 2."""
+    check_fits(told, 0)
+    if depth(told) > 2:
+        raise TooGreat("too many somes and alls within one another")

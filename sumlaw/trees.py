@@ -188,3 +188,19 @@ def tree_of(told):
     if word == "or":
         return Or(told, word, [tree_of(part) for part in told[1]])
     return Binder(told, word, told[1], tree_of(told[2]))
+
+
+def filled_all(told, values):
+    """The statement with numbers put in for all its free names, each of which needs a value."""
+    tree = tree_of(told)
+    check_values(tree.loose(), values)
+    return tree.filled(values)
+
+
+def filled_but(told, name, values):
+    """The statement with numbers put in for all its free names but one, whose value is not looked at."""
+    tree = tree_of(told)
+    check_values([one for one in tree.loose() if one != name], values)
+    others = dict(values)
+    others.pop(name, None)
+    return tree.filled(others)

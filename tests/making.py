@@ -3,6 +3,7 @@
 import itertools
 import math
 
+from sumlaw.errors import SumError
 from sumlaw.sums import sum_of
 
 GREAT = 10 ** 199 + 7
@@ -175,7 +176,10 @@ def true_for_some(told, name, values):
 
 
 def full_truth(told, values, far):
-    """Whether a statement is true; of a some or an all over another one all numbers up to far are tried."""
+    """Whether a statement is true; of a some or an all over another one all numbers up to far are tried.
+
+    Within that one they are tried four times as far, as its numbers may have to lie beyond those of the outer one.
+    """
     if told[0] in ("least", "rest"):
         return truth(told, values)
     if told[0] == "not":
@@ -185,7 +189,7 @@ def full_truth(told, values, far):
         return all(truths) if told[0] == "and" else any(truths)
     word, name, part = told
     numbers = tried(part, name, values) if is_plain(part) else range(-far, far + 1)
-    truths = (full_truth(part, {**values, name: number}, far) for number in numbers)
+    truths = (full_truth(part, {**values, name: number}, 4 * far) for number in numbers)
     return any(truths) if word == "some" else all(truths)
 
 
@@ -193,3 +197,77 @@ def is_plain(told):
     if told[0] in ("and", "or"):
         return all(is_plain(part) for part in told[1])
     return is_plain(told[1]) if told[0] == "not" else told[0] in ("least", "rest")
+
+
+def any_bound(chance, names, count, most):
+    """A plain statement of this many atoms, with numbers of the names up to most and small rests."""
+    if count > 1:
+        cut = chance.randrange(1, count)
+        parts = (any_bound(chance, names, cut, most), any_bound(chance, names, count - cut, most))
+        told = (chance.choice(["and", "or"]), parts)
+    else:
+        total = sum_of(chance.randrange(-2, 3), [(name, chance.randrange(-most, most + 1)) for name in names])
+        told = ("rest", chance.randrange(1, 4), total) if chance.randrange(3) == 0 else ("least", total)
+    return ("not", told) if chance.randrange(6) == 0 else told
+
+
+def any_deep(chance, names, deep, count, most):
+    """This many somes and alls within one another, with some of the atoms between them."""
+    if deep == 0:
+        return any_bound(chance, names, count, most)
+    within = chance.randrange(max(1, count - 1), count + 1)
+    part = any_deep(chance, names, deep - 1, within, most)
+    if within < count:
+        parts = [part, any_bound(chance, names, count - within, most)]
+        chance.shuffle(parts)
+        part = (chance.choice(["and", "or"]), tuple(parts))
+    if chance.randrange(8) == 0:
+        part = ("not", part)
+    return (chance.choice(["some", "all"]), chance.choice(names), part)
+
+
+def lies_in(told_set, number):
+    """Whether a number lies in a set, reckoned another way."""
+    step, runs = told_set
+    return any((number - rest) % step == 0 and not (first is not None and number < first)
+               and not (last is not None and number > last) for rest, first, last in runs)
+
+
+def set_faults(told_set):
+    """What keeps a set from the one form that it has by its step."""
+    step, runs = told_set
+    if type(told_set) is not tuple or type(step) is not int or type(runs) is not list or not 1 <= step <= 960:
+        return ["kind"]
+    found = []
+    for run in runs:
+        if type(run) is not tuple or type(run[0]) is not int or not {type(run[1]), type(run[2])} <= {int, type(None)}:
+            return ["kind"]
+        rest, first, last = run
+        if not 0 <= rest < step or any(end is not None and end % step != rest for end in (first, last)):
+            found.append("rest")
+        if first is not None and last is not None and first > last:
+            found.append("ends")
+    for one, other in zip(runs, runs[1:]):
+        if one[0] > other[0]:
+            found.append("order")
+        if one[0] == other[0] and (one[2] is None or other[1] is None or other[1] < one[2] + 2 * step):
+            found.append("gap")
+    return found
+
+
+def refusal(function, *arguments):
+    """The class with which something is refused, None where it is not; a refusal hides no other error."""
+    try:
+        function(*arguments)
+    except SumError as refused:
+        if refused.__cause__ or refused.__context__:
+            raise AssertionError("a refusal out of another error") from refused
+        return type(refused)
+    return None
+
+
+def within(count, part):
+    """This many somes and alls by turns, around a part, with names that stand nowhere else."""
+    for turn in range(count):
+        part = (("some", "all")[turn % 2], "q" + str(turn), part)
+    return part

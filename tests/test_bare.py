@@ -4,7 +4,7 @@ import time
 import unittest
 
 from making import (FULL, GREAT, NAMES, NO, PLAIN, X, Y, YES, any_statement, atom_list, faults, free,
-                    full_truth, is_plain, kinds, least, rest, some_values, truth)
+                    full_truth, is_plain, kinds, least, rest, some_values, truth, within)
 from sumlaw.bare import bare
 from sumlaw.errors import TooGreat
 from sumlaw.measure import depth, fits, load
@@ -12,13 +12,6 @@ from sumlaw.sums import sum_of
 
 EVEN, ODD = rest(2, 0, x=1), rest(2, 1, x=1)
 BETWEEN = ("and", (least(0, x=2, y=-1), least(0, x=-2, z=1)))
-
-
-def within(count, part):
-    """This many somes and alls by turns, around a part, with names that stand nowhere else."""
-    for turn in range(count):
-        part = (("some", "all")[turn % 2], "q" + str(turn), part)
-    return part
 
 
 class Bare(unittest.TestCase):

@@ -2,6 +2,7 @@ import importlib
 import inspect
 import unittest
 
+from sumlaw.desk import Desk
 from sumlaw.measure import fits
 from sumlaw.trees import Branch, tree_of
 
@@ -18,6 +19,11 @@ FUNCTIONS = {
     "looker": {"looked": ["told", "name", "cases"]},
     "sought": {"sought": ["told", "name", "values"]},
     "bare": {"bare": ["told"]},
+    "answer": {"answer": ["told", "values"], "pick": ["told", "values"]},
+    "sets": {"answers": ["told", "name", "values"], "inside": ["told_set", "number"], "nearest": ["told_set", "number"],
+             "how_many": ["told_set"]},
+    "unlike": {"unlike": ["one", "other", "name", "values"]},
+    "desk": {"written": ["told_set"]},
 }
 METHODS = {"told": [], "wording": [], "loose": [], "worth": ["values"], "filled": ["values"]}
 X = ("least", (0, (("x", 1),)))
@@ -41,6 +47,11 @@ class Interface(unittest.TestCase):
             self.assertIsInstance(tree, Branch)
             for name, arguments in METHODS.items():
                 self.assertEqual(list(inspect.signature(getattr(tree, name)).parameters), arguments, (told, name))
+
+    def test_desk(self):
+        self.assertTrue(inspect.isclass(Desk))
+        self.assertEqual(list(inspect.signature(Desk).parameters), [])
+        self.assertEqual(list(inspect.signature(Desk().line).parameters), ["text"])
 
 
 if __name__ == "__main__":
